@@ -1,0 +1,1 @@
+"""Lampcues: a light desk that stands where its list puts it."""
