@@ -1,4 +1,8 @@
-"""Holds the package's files against the rules of LANGUAGE.md that can be seen in a file by itself."""
+"""Holds the package's files against a part of the rules of LANGUAGE.md: those that are plain to see in a syntax tree.
+
+Not looked at: L11, L13, L19, L22, L23, L24, L28, and what L15 and L18 say of how lists and classes are used.
+Those are kept by reading.
+"""
 
 import ast
 import builtins
