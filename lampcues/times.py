@@ -1,6 +1,7 @@
 """Times: whole numbers of ticks, and how they are written in seconds."""
 
 from lampcues.errors import NoText, NoTime
+from lampcues.wholes import is_whole
 
 MOST_TICKS = 1000000000
 TICKS_A_SECOND = 1000
@@ -11,10 +12,7 @@ FIGURES = "0123456789"
 
 
 def is_time(thing):
-    # True and False are ints to Python, but no whole numbers here.
-    if isinstance(thing, bool) or not isinstance(thing, int):
-        return False
-    return 0 <= thing <= MOST_TICKS
+    return is_whole(thing) and 0 <= thing <= MOST_TICKS
 
 
 def time_text(ticks):
