@@ -1,7 +1,7 @@
 """Holds the package's files against a part of the rules of LANGUAGE.md: those that are plain to see in a syntax tree.
 
 test_language_uses.py looks at how things are used: L13, L15, L18, L19, L20, L22, L23, L24, L25, L27, L28.
-Not looked at by either: L11, which is kept by reading.
+Not looked at by either: L11. Of the others some are looked at in part only; the rest is kept by reading.
 """
 
 import ast
