@@ -2,59 +2,11 @@ import itertools
 import unittest
 from fractions import Fraction
 
+from helper import PlainCourse, evenly
 from lampcues.courses import Course, stand
 
 GREAT = 10 ** 9
 LONGEST = 10 ** 30 - 1
-
-
-def evenly(start, end, length, moment):
-    """Where [6] puts a thing, by fractions."""
-    if moment < 0:
-        return start
-    if moment >= length:
-        return end
-    steps = int(abs(end - start) * moment / length)
-    return start + steps if end > start else start - steps
-
-
-class PlainCourse:
-    """All that [7] says, told again from the first fade at each question."""
-
-    def __init__(self, first):
-        self.first = first
-        self.heard = []
-
-    def tell(self, now, wait, rise, fall, end):
-        self.heard.append((now, wait, rise, fall, end))
-
-    def left(self):
-        left = []
-        for now, wait, rise, fall, end in self.heard:
-            out = now + wait
-            left = [fade for fade in left if fade[0] < out]
-            start = self.by(left, Fraction(out))
-            left.append((out, start, end, rise if end > start else fall))
-        return left
-
-    def by(self, left, moment):
-        step = self.first
-        for out, start, end, length in left:
-            if out <= moment:
-                step = evenly(start, end, length, moment - out)
-        return step
-
-    def at(self, moment):
-        return self.by(self.left(), moment)
-
-    def aim(self):
-        return self.heard[-1][4] if self.heard else self.first
-
-    def still(self):
-        if not self.heard:
-            return 0
-        last = self.left()[-1]
-        return last[0] + last[3]
 
 
 class Standing(unittest.TestCase):

@@ -164,6 +164,9 @@ def faults_of_file(text):
     faults = faults_of_text(text) + faults_of_top(tree)
     for node in ast.walk(tree):
         faults += faults_of_node(node)
+        # The file's own docstring is the one thing that may stand by itself and is no call.
+        if isinstance(node, ast.Expr) and node not in tree.body[:1] and not isinstance(node.value, ast.Call):
+            faults.append((node.lineno, "L6 by itself"))
     return faults
 
 
@@ -236,7 +239,8 @@ class TheRulesBite(unittest.TestCase):
                      "def f(x):\n    return {a for a in x}\n", "def f(x):\n    return (a for a in x)\n", "#\ttab\n",
                      "def f(x):\n    return x is f\n", "def f():\n    return '%'\n", "class A:\n    b = 1\n",
                      "def f():\n    _a = 1\n", "def f():\n    print(1)\n", "def _f():\n    pass\n",
-                     "#" * 121 + "\n", "def f():\n" + "    f()\n" * 40, "f()\n", "def f():\n    a, b = 1, 2\n"):
+                     "#" * 121 + "\n", "def f():\n" + "    f()\n" * 40, "f()\n", "def f():\n    a, b = 1, 2\n",
+                     "def f(x):\n    x + 1\n", "def f(x):\n    'words'\n    return x\n"):
             self.assertNotEqual(faults_of_file(text), [], text)
 
     def test_plain_code_is_let_through(self):

@@ -1,8 +1,8 @@
 """Holds the package's files against the rules of LANGUAGE.md on how things are used, beside test_language.py.
 
 Looked at here: L13, L15, L18, L19, L20, L22, L23, L24, L25, L27, L28. Somewhat narrower than the rules: no ValueError,
-LookupError or IndexError is taken at all, and of the methods with two underscores there is __init__ alone. Somewhat wider
-too: a list that goes by two names, or a written keyword's worth, isn't followed up. That is kept by reading.
+LookupError or IndexError is taken at all, and of the methods with two underscores there is __init__ alone. Somewhat
+wider too: a list that goes by two names, or a written keyword's worth, isn't followed up. That is kept by reading.
 """
 
 import ast

@@ -1,8 +1,8 @@
 import inspect
 import unittest
 
-from helper import (DICTS, LISTS, MOST, ODD, SIDES, TEXTS, TUPLES, WRONG_NUMBERS, cue, no_lists, plain, refused,
-                    some_list)
+from helper import (DICTS, LISTS, MOST, ODD, SIDES, TEXTS, TUPLES, WRONG_NUMBERS, cue, no_lists, plain,
+                    plainly_carried, plainly_shown, refused, slots_of, some_list)
 from lampcues.cues import Cue, Part
 from lampcues.errors import NoCue, NoList
 from lampcues.looks import above, below, carried, cue_at, shown
@@ -12,40 +12,6 @@ TILT = ("spot", "tilt")
 RED = ("wash", "red")
 ALL = (carried, shown, above, below, cue_at)
 NO_NUMBERS = WRONG_NUMBERS + ODD + TUPLES + LISTS + DICTS + TEXTS
-
-
-def tells_on(one, slot):
-    """The worths that a cue's parts tell this slot on at: one or none."""
-    return [part.tells[slot] for part in one.parts if slot in part.tells]
-
-
-def plainly_carried(cues, number, slot):
-    """[10] gone through backwards: the last cue that tells the slot on or stops settles it."""
-    for one in reversed(cues):
-        if one.number <= number:
-            told = tells_on(one, slot)
-            if told:
-                return told[0]
-            if one.stops:
-                return 0
-    return 0
-
-
-def plainly_shown(cues, number, slot):
-    for one in cues:
-        if one.number == number:
-            for part in one.parts:
-                if slot in part.alone:
-                    return part.alone[slot]
-    return plainly_carried(cues, number, slot)
-
-
-def slots_of(cues):
-    slots = {PAN, ("never", "tilt")}
-    for one in cues:
-        for part in one.parts:
-            slots |= set(part.tells) | set(part.alone)
-    return sorted(slots)
 
 
 def on(number, told, stops=False):
