@@ -18,15 +18,29 @@ def is_lamp(thing):
     return 1 <= len(thing) <= MOST_LETTERS and all([sign in LETTERS for sign in thing])
 
 
+def is_side(thing):
+    # Its kind is asked first: things of other kinds may fail as they are held against a text.
+    return isinstance(thing, str) and thing in SIDES
+
+
 def is_slot(thing):
     if not isinstance(thing, tuple) or len(thing) != 2:
         return False
-    # Its kind is asked first: things of other kinds may fail as they are held against a text.
-    return is_lamp(thing[0]) and isinstance(thing[1], str) and thing[1] in SIDES
+    return is_lamp(thing[0]) and is_side(thing[1])
 
 
 def is_worth(thing):
     return is_whole(thing) and 0 <= thing <= MOST_WORTH
+
+
+def refuse_slot(thing):
+    if not is_slot(thing):
+        raise NoSlot("a slot is a lamp and a side")
+
+
+def refuse_worth(thing):
+    if not is_worth(thing):
+        raise NoWorth("a worth is a whole number from 0 to 10 ** 9")
 
 
 def is_cue_number(thing):
@@ -44,8 +58,8 @@ class Part:
             if not has_slots_as_keys(told):
                 raise NoSlot("a part tells by a dict from slots")
         for told in (tells, alone):
-            if not all([is_worth(worth) for worth in told.values()]):
-                raise NoWorth("a worth is a whole number from 0 to 10 ** 9")
+            for worth in told.values():
+                refuse_worth(worth)
         if not all([is_time(ticks) for ticks in (rise, fall, wait)]):
             raise NoTime("rise, fall and wait are times")
         self.tells = dict(tells)
@@ -83,8 +97,7 @@ class Cue:
         self.follow = follow
 
     def part_of(self, slot):
-        if not is_slot(slot):
-            raise NoSlot("a slot is a lamp and a side")
+        refuse_slot(slot)
         for part in self.parts:
             if slot in part.tells or slot in part.alone:
                 return part

@@ -55,3 +55,11 @@ def cue_at(cues, number):
         if cue.number == number:
             return cue
     return None
+
+
+# For whoever can do nothing without the cue.
+def needed_cue(cues, number):
+    cue = cue_at(cues, number)
+    if cue is None:
+        raise NoCue("no cue of the list has this number")
+    return cue

@@ -3,6 +3,7 @@
 What is told again here is told as plainly as can be, and shares nothing with the program but parts and cues.
 """
 
+import inspect
 import random
 from collections import OrderedDict, UserDict, UserList, UserString, defaultdict
 from decimal import Decimal
@@ -69,11 +70,32 @@ LISTS = [[], [1], ["spot", "pan"], [Part({}, {})], [Cue(1, [Part({}, {})])], [No
 DICTS = [{}, {1: 1}, {("spot", "pan"): 1}, {"spot": {}}, OrderedDict(), defaultdict(int)]
 NUMBERS = [0, 1, 5, MOST]
 WRONG_NUMBERS = [-1, -2, -MOST, -10 ** 40, -10 ** 5000]
+NO_LAMPS = ["", "abcdefghi", "spotspotspot", "A", "Spot", "spoT", "spot1", "1", "a b", " a", "a ", "a\n", "\n", "\ta",
+            "a_b", "a-b", "a.b", "`", "{", "@", "[", "\x00", "a\x00", "\u00e9", "\u00df", "\u0430", "\uff41", "\u00aa"]
+NO_SIDES = ["", "Pan", "PAN", "pa", "pann", "pan ", " pan", "pan\n", "bright1", "white", "spot", "bluebright", "x"]
+NO_SLOTS = (
+    [("spot", side) for side in NO_SIDES] + [(lamp, "pan") for lamp in NO_LAMPS]
+    + [(thing, "pan") for thing in ODD + TUPLES + LISTS + DICTS + NUMBERS]
+    + [("spot", thing) for thing in ODD + TUPLES + LISTS + DICTS + NUMBERS]
+    + [["spot", "pan"], ("pan", "spot"), ("spot", "pan", "pan"), ("spot", "pan", 1), ("spot",), (), "spot pan", "sp",
+       ("spot", ("pan",)), (("spot",), "pan"), (("spot", "pan"),), {"spot": "pan"}]
+    + ODD + TUPLES + LISTS + DICTS + TEXTS + NUMBERS + WRONG_NUMBERS)
+NO_WORTHS = [-1, MOST + 1, 10 ** 10, 10 ** 5000] + WRONG_NUMBERS + ODD + TUPLES + LISTS + DICTS + TEXTS
+NO_NAMES = NO_LAMPS + ODD + TUPLES + LISTS + DICTS + NUMBERS + WRONG_NUMBERS + [("a",), ["a"], {"a": 1}]
+NO_LEVELS = [1001, 1002, 5000, MOST] + NO_WORTHS
 TIMES = (0, 0, 1, 20, 300, 1000, 1250, 60000, MOST)
 FOLLOWS = (None, None, 0, 1, 1500, MOST)
 # Short enough to be told tick by tick.
 SHORT_TIMES = (0, 0, 1, 2, 3, 7, 20, 45)
 SHORT_FOLLOWS = (None, None, None, 0, 0, 1, 2, 5, 16, 40)
+
+
+def can_be_key(thing):
+    try:
+        hash(thing)
+    except (TypeError, RuntimeError, ValueError):
+        return False
+    return True
 
 
 def cue(number):
@@ -106,6 +128,12 @@ def refused(test, kind, call, *given, **named):
         test.assertEqual([one for one in REFUSALS if isinstance(fault, one)], [kind])
         return fault
     test.fail("not refused with " + kind.__name__)
+
+
+def arguments_of(call):
+    """The names of what it takes, in order, and what is taken where one is left out."""
+    spec = inspect.signature(call).parameters.values()
+    return [one.name if one.default is inspect.Parameter.empty else (one.name, one.default) for one in spec]
 
 
 def some_part(chance, slots, spans):

@@ -4,8 +4,8 @@ import string
 import unittest
 from collections import OrderedDict, defaultdict
 
-from helper import (DICTS, LISTS, MOST, NUMBERS, ODD, SIDES, TEXTS, TUPLES, WRONG_NUMBERS, NumberLike, Sulky, SulkyKey,
-                    cue, no_lists, plain, refused, some_list)
+from helper import (DICTS, LISTS, MOST, NO_LAMPS, NO_SLOTS, NO_WORTHS, NUMBERS, ODD, SIDES, TEXTS, TUPLES,
+                    WRONG_NUMBERS, NumberLike, Sulky, SulkyKey, can_be_key, cue, no_lists, plain, refused, some_list)
 from lampcues.cues import Cue, Part, alike, cue_list, is_lamp, is_slot, is_worth
 from lampcues.errors import NoCue, NoList, NoPart, NoSlot, NoTime, NoWorth
 
@@ -13,27 +13,8 @@ PAN = ("spot", "pan")
 TILT = ("spot", "tilt")
 RED = ("wash", "red")
 
-NO_LAMPS = ["", "abcdefghi", "spotspotspot", "A", "Spot", "spoT", "spot1", "1", "a b", " a", "a ", "a\n", "\n", "\ta",
-            "a_b", "a-b", "a.b", "`", "{", "@", "[", "\x00", "a\x00", "\u00e9", "\u00df", "\u0430", "\uff41", "\u00aa"]
-NO_SIDES = ["", "Pan", "PAN", "pa", "pann", "pan ", " pan", "pan\n", "bright1", "white", "spot", "bluebright", "x"]
-NO_SLOTS = (
-    [("spot", side) for side in NO_SIDES] + [(lamp, "pan") for lamp in NO_LAMPS]
-    + [(thing, "pan") for thing in ODD + TUPLES + LISTS + DICTS + NUMBERS]
-    + [("spot", thing) for thing in ODD + TUPLES + LISTS + DICTS + NUMBERS]
-    + [["spot", "pan"], ("pan", "spot"), ("spot", "pan", "pan"), ("spot", "pan", 1), ("spot",), (), "spot pan", "sp",
-       ("spot", ("pan",)), (("spot",), "pan"), (("spot", "pan"),), {"spot": "pan"}]
-    + ODD + TUPLES + LISTS + DICTS + TEXTS + NUMBERS + WRONG_NUMBERS)
-NO_WORTHS = [-1, MOST + 1, 10 ** 10, 10 ** 5000] + WRONG_NUMBERS + ODD + TUPLES + LISTS + DICTS + TEXTS
 NO_TIMES = NO_WORTHS
 NO_NUMBERS = [0] + NO_WORTHS
-
-
-def can_be_key(thing):
-    try:
-        hash(thing)
-    except (TypeError, RuntimeError, ValueError):
-        return False
-    return True
 
 
 class Asking(unittest.TestCase):
