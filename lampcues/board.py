@@ -1,6 +1,6 @@
 """The board: faders laid over a look, and hands that take all down."""
 
-from lampcues.cues import has_slots_as_keys, is_side, is_worth, refuse_slot, refuse_worth
+from lampcues.cues import has_slots_as_keys, is_bright, is_side, is_worth, refuse_slot, refuse_worth
 from lampcues.errors import NoName, NoSlot, NoWorth
 from lampcues.mixing import amount, lowered, refuse_level
 from lampcues.names import refuse_lamps, refuse_name
@@ -107,10 +107,6 @@ class Board:
         for told in self.filled.values():
             slots.extend(list(told))
         return sorted(set(slots))
-
-
-def is_bright(slot):
-    return slot[1] == "bright"
 
 
 def refuse_look(thing):

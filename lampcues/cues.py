@@ -29,6 +29,10 @@ def is_slot(thing):
     return is_lamp(thing[0]) and is_side(thing[1])
 
 
+def is_bright(slot):
+    return slot[1] == "bright"
+
+
 def is_worth(thing):
     return is_whole(thing) and 0 <= thing <= MOST_WORTH
 

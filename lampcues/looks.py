@@ -42,6 +42,10 @@ def shown(cues, number):
     return look
 
 
+def looks_of(cues):
+    return [shown(cues, cue.number) for cue in cue_list(cues)]
+
+
 def above(cues, number):
     return min([cue.number for cue in checked(cues, number) if cue.number > number], default=0)
 

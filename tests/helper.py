@@ -4,6 +4,7 @@ What is told again here is told as plainly as can be, and shares nothing with th
 """
 
 import inspect
+import itertools
 import random
 from collections import OrderedDict, UserDict, UserList, UserString, defaultdict
 from decimal import Decimal
@@ -15,6 +16,8 @@ from lampcues.errors import LampError
 
 MOST = 10 ** 9
 SIDES = ("blue", "bright", "green", "pan", "red", "tilt")
+LAMPS = ("a", "spot", "wash")
+SLOTS = [(lamp, side) for lamp in LAMPS for side in SIDES]
 REFUSALS = [errors.NoText, errors.NoTime, errors.NoSlot, errors.NoWorth, errors.NoPart, errors.NoCue, errors.NoList,
             errors.Late, errors.NoName, errors.MovesBright, errors.NoRow]
 
@@ -82,6 +85,9 @@ NO_SLOTS = (
     + ODD + TUPLES + LISTS + DICTS + TEXTS + NUMBERS + WRONG_NUMBERS)
 NO_WORTHS = [-1, MOST + 1, 10 ** 10, 10 ** 5000] + WRONG_NUMBERS + ODD + TUPLES + LISTS + DICTS + TEXTS
 NO_NAMES = NO_LAMPS + ODD + TUPLES + LISTS + DICTS + NUMBERS + WRONG_NUMBERS + [("a",), ["a"], {"a": 1}]
+NO_LAMP_LISTS = (
+    ODD + TUPLES + DICTS + TEXTS + NUMBERS + ["spot", ("spot",), ("a", "b"), {"spot": 1}, ["spot", "pan", "Pan"]]
+    + [[thing] for thing in NO_NAMES] + [["a", thing] for thing in NO_NAMES] + [[thing, "a"] for thing in NO_NAMES])
 NO_LEVELS = [1001, 1002, 5000, MOST] + NO_WORTHS
 TIMES = (0, 0, 1, 20, 300, 1000, 1250, 60000, MOST)
 FOLLOWS = (None, None, 0, 1, 1500, MOST)
@@ -261,6 +267,69 @@ def slots_of(cues):
     return sorted(slots)
 
 
+def plain_looks(cues):
+    """The looks that a list shows at its cues, slot by slot."""
+    looks = []
+    for one in cues:
+        look = {slot: plainly_shown(cues, one.number, slot) for slot in slots_of(cues)}
+        looks.append({slot: worth for slot, worth in look.items() if worth != 0})
+    return looks
+
+
+def same_frame(test, cues, made):
+    """[30]: the same numbers, follows, parts and times, and each slot told in the part that told it, or the first."""
+    for old, new in zip(plain(cues), plain(made), strict=True):
+        test.assertEqual((old[0], old[3]), (new[0], new[3]))
+        test.assertEqual([part[2:] for part in old[1]], [part[2:] for part in new[1]])
+        for place, part in enumerate(new[1]):
+            for slot in {**part[0], **part[1]}:
+                before = [at for at, one in enumerate(old[1]) if slot in one[0] or slot in one[1]]
+                test.assertEqual((before + [0])[0], place)
+
+
+def least_tellings(worths, stops):
+    """How often one slot has to be told to show these: by all that it may carry on behind each cue."""
+    counts = {0: 0}
+    for worth, stop in zip(worths, stops):
+        if stop:
+            counts = {0: min(counts.values())}
+        behind = {}
+        for before, count in counts.items():
+            for carried in {before, *worths}:
+                told = count + (carried != before) + (carried != worth)
+                behind[carried] = min(told, behind.get(carried, told))
+        counts = behind
+    return min(counts.values())
+
+
+def least_weight(looks):
+    """The least weight of a list that shows these looks: by all choices of the cues that stop."""
+    weights = []
+    for stops in itertools.product((False, True), repeat=len(looks)):
+        slots = {slot for look in looks for slot in look}
+        columns = [[look.get(slot, 0) for look in looks] for slot in slots]
+        weights.append(sum(stops) + sum(least_tellings(column, stops) for column in columns))
+    return min(weights)
+
+
+def plainly_told(rows, number, slot, worth, place, way):
+    """[25] done to what plain tells of a list; the way is 0 for on, 1 for alone."""
+    parts = [row[1] for row in rows if row[0] == number][0]
+    telling = [one for one, part in enumerate(parts) if slot in part[0] or slot in part[1]]
+    parts[(telling + [place])[0]][way][slot] = worth
+
+
+def plainly_kept(cues, number):
+    left = [one for one in cues if one.number != number]
+    rows = plain(left)
+    behind = [one.number for one in left if one.number > number][:1]
+    for slot in slots_of(cues) if behind else []:
+        worth = plainly_carried(cues, behind[0], slot)
+        if plainly_carried(left, behind[0], slot) != worth:
+            plainly_told(rows, behind[0], slot, worth, 0, 0)
+    return rows
+
+
 def short_list(seed, most=8):
     return some_list(seed, most, SHORT_TIMES, SHORT_FOLLOWS)
 
@@ -384,3 +453,175 @@ def some_moments(seeds, count, bottoms):
         for place in range(count):
             bottom = chance.choice(bottoms)
             yield cues, deeds, chance.randrange(ticks * bottom), bottom, telling
+
+
+class PlainBoard:
+    """[22] to [24] told again: all deeds are gone through from the first one at each question, slot by slot."""
+
+    def __init__(self):
+        self.log = []
+
+    def held(self, fader, slot):
+        worth = None
+        groups = {}
+        for word, name, *rest in self.log:
+            if word == "group":
+                groups[name] = rest[0]
+            if word == "fill" and name == fader and rest[0] == slot:
+                worth = rest[1]
+            if word == "fill_group" and name == fader and rest[1] == slot[1] and slot[0] in groups[rest[0]]:
+                worth = rest[2]
+        return worth
+
+    def moves(self, fader):
+        """When it was touched, and the level it was moved to."""
+        never = [(-1, 0)]
+        return never + [(place, deed[2]) for place, deed in enumerate(self.log) if deed[:2] == ("move", fader)]
+
+    def bids(self, look, slot):
+        """All that a slot may stand at: (how it ranks, how its name ranks, its name, its number)."""
+        bids = [(look.get(slot, 0) if slot[1] == "bright" else -1, 0, "", look.get(slot, 0))]
+        for place, fader in enumerate(sorted({deed[1] for deed in self.log})):
+            worth = self.held(fader, slot)
+            touch, level = self.moves(fader)[-1]
+            if worth is not None and slot[1] == "bright":
+                bids.append((worth * level // 1000, -1 - place, fader, worth * level // 1000))
+            elif worth is not None and level > 0:
+                bids.append((touch, -1 - place, fader, worth))
+        return bids
+
+    def winner(self, look, slot):
+        return max(self.bids(look, slot))[2]
+
+    def down(self, lamp):
+        downs = {deed[1]: deed[2] for deed in self.log if deed[0] == "down"}
+        return max([0] + [downs[hand] for hand in downs if ("spare", hand, lamp) not in self.log])
+
+    def mixed(self, look):
+        mix = {slot: max(self.bids(look, slot))[3] for slot in SLOTS}
+        for lamp in LAMPS:
+            slot = (lamp, "bright")
+            mix[slot] = mix[slot] * (1000 - self.down(lamp)) // 1000
+        return {slot: worth for slot, worth in mix.items() if worth != 0}
+
+
+def ticks_in(word):
+    return int(Decimal(word) * 1000)
+
+
+def plainly_changed(cues, word, words):
+    """The list that a desk's deed makes of this one, or None where it can't be done."""
+    number = int(words[0])
+    if any(one.number == number for one in cues) == (word == "put"):
+        return None
+    rows = plain(cues)
+    parts = [part for row in rows if row[0] == number for part in row[1]]
+    if word == "put":
+        times = [ticks_in(one) for one in words[1:] if one != "follow"]
+        follow = times[3] if len(times) > 3 else None
+        rows = sorted(rows + [(number, [({}, {}, *times[:3])], False, follow)], key=lambda row: row[0])
+    elif word == "out":
+        rows = [row for row in rows if row[0] != number]
+    elif word == "keep":
+        rows = plainly_kept(cues, number)
+    elif word in ("tell", "alone"):
+        plainly_told(rows, number, (words[1], words[2]), int(words[3]), 0, ("tell", "alone").index(word))
+    elif word == "untell":
+        for told in [told for part in parts for told in part[:2]]:
+            told.pop((words[1], words[2]), None)
+    else:
+        rows = [row[:2] + (word == "block" if row[0] == number else row[2],) + row[3:] for row in rows]
+    return [Cue(row[0], [Part(*part) for part in row[1]], row[2], row[3]) for row in rows]
+
+
+class PlainDesk:
+    """[37] and [38] told again at each question, from all rows that were heard till then."""
+
+    def __init__(self, cues=()):
+        self.cues = list(cues)
+        self.heard = []
+
+    def hear(self, row):
+        hand, tick = row.split(" ")[:2]
+        self.heard.append((int(tick), hand, len(self.heard), row))
+
+    def rows(self):
+        return [heard[3] for heard in sorted(self.heard)]
+
+    def at(self, moment):
+        """The picture, the number on which one stands, and the list."""
+        cues = self.cues
+        deeds = []
+        board = PlainBoard()
+        for row in self.rows():
+            hand, tick, word, *words = row.split(" ")
+            if int(tick) > moment:
+                continue
+            if word in ("go", "back", "stop", "on", "goto"):
+                deeds.append((int(tick), word) + tuple(int(one) for one in words))
+            elif word == "fill":
+                board.log.append((word, words[0], (words[1], words[2]), int(words[3])))
+            elif word == "move":
+                board.log.append((word, words[0], int(words[1])))
+            elif word == "down":
+                board.log.append((word, hand, int(words[0])))
+            elif word == "spare":
+                board.log.append((word, hand, words[0]))
+            else:
+                new = plainly_changed(cues, word, words)
+                if new is not None:
+                    cues = new
+                    deeds.append((int(tick), "list", cues))
+        telling = PlainTelling(self.cues, deeds, int(moment) + 1)
+        return board.mixed(telling.look(moment)), telling.state(moment)[2], telling.state(moment)[4]
+
+
+def some_desk_row(chance, hand, tick):
+    """A row that hands may tell; many of them can't be done."""
+    number = str(chance.choice((1, 1, 2, 2, 3, 4, 7, 12)))
+    slot = " ".join(chance.choice([slot for slot in SLOTS if slot[1] in ("bright", "pan")]))
+    times = " ".join(chance.choice(("0", "0", "0.001", "0.004", "0.007", "0.03")) for place in range(3))
+    worth = chance.choice((" 0", " 1", " 40", " 1000"))
+    deed = chance.choice((
+        "go", "go", "go", "go", "back", "goto " + number, "stop", "on", "put " + number + " " + times,
+        "put " + number + " " + times, "put " + number + " " + times,
+        "put " + number + " " + times + " follow " + chance.choice(("0", "0.002", "0.01")), "out " + number,
+        "keep " + number, "tell " + number + " " + slot + worth, "tell " + number + " " + slot + worth,
+        "tell " + number + " " + slot + worth, "alone " + number + " " + slot + worth,
+        "untell " + number + " " + slot, "block " + number, "unblock " + number,
+        "fill " + chance.choice("ab") + " " + slot + worth,
+        "move " + chance.choice("ab") + " " + str(chance.choice((0, 1, 500, 1000))),
+        "down " + str(chance.choice((0, 0, 300, 1000))), "spare " + chance.choice(LAMPS)))
+    return hand + " " + str(tick) + " " + deed
+
+
+def some_hands(chance, count=3, most=10, apart=(0, 0, 0, 1, 2, 5, 20)):
+    """For each hand the rows that it tells, in order."""
+    hands = []
+    for hand in chance.sample(("a", "anna", "b", "bob", "go", "zzzzzzzz"), count):
+        tick = 0
+        rows = []
+        for place in range(chance.randrange(most + 1)):
+            tick += chance.choice(apart)
+            rows.append(some_desk_row(chance, hand, tick))
+        hands.append(rows)
+    return hands
+
+
+def woven(chance, hands):
+    """The rows of all hands in one of the ways in which each hand's own stay in order."""
+    order = [place for place, rows in enumerate(hands) for row in rows]
+    chance.shuffle(order)
+    left = [list(rows) for rows in hands]
+    return [left[place].pop(0) for place in order]
+
+
+def all_weavings(hands):
+    if not any(hands):
+        return [[]]
+    ways = []
+    for place, rows in enumerate(hands):
+        if rows:
+            rest = hands[:place] + [rows[1:]] + hands[place + 1:]
+            ways += [[rows[0]] + way for way in all_weavings(rest)]
+    return ways

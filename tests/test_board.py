@@ -4,8 +4,8 @@ import random
 import unittest
 from collections import OrderedDict, defaultdict
 
-from helper import (DICTS, LISTS, MOST, NO_LEVELS, NO_NAMES, NO_SIDES, NO_SLOTS, NO_WORTHS, NUMBERS, ODD, SIDES, TEXTS,
-                    TUPLES, arguments_of, can_be_key, refused)
+from helper import (DICTS, LAMPS, LISTS, MOST, NO_LAMP_LISTS, NO_LEVELS, NO_NAMES, NO_SIDES, NO_SLOTS, NO_WORTHS,
+                    NUMBERS, ODD, SIDES, SLOTS, TEXTS, TUPLES, PlainBoard, arguments_of, can_be_key, refused)
 from lampcues.board import Board
 from lampcues.errors import NoName, NoSlot, NoWorth
 
@@ -13,12 +13,7 @@ BRIGHT = ("spot", "bright")
 PAN = ("spot", "pan")
 RED = ("spot", "red")
 WASH = ("wash", "bright")
-LAMPS = ("a", "spot", "wash")
-SLOTS = [(lamp, side) for lamp in LAMPS for side in SIDES]
 NAMES = ("a", "b", "spot", "zzzzzzzz")
-NO_LAMP_LISTS = (
-    ODD + TUPLES + DICTS + TEXTS + NUMBERS + ["spot", ("spot",), ("a", "b"), {"spot": 1}, ["spot", "pan", "Pan"]]
-    + [[thing] for thing in NO_NAMES] + [["a", thing] for thing in NO_NAMES] + [[thing, "a"] for thing in NO_NAMES])
 
 
 def done(*deeds):
@@ -27,56 +22,6 @@ def done(*deeds):
     for word, *given in deeds:
         getattr(board, word)(*given)
     return board
-
-
-class PlainBoard:
-    """[22] to [24] told again: all deeds are gone through from the first one at each question, slot by slot."""
-
-    def __init__(self):
-        self.log = []
-
-    def held(self, fader, slot):
-        worth = None
-        groups = {}
-        for word, name, *rest in self.log:
-            if word == "group":
-                groups[name] = rest[0]
-            if word == "fill" and name == fader and rest[0] == slot:
-                worth = rest[1]
-            if word == "fill_group" and name == fader and rest[1] == slot[1] and slot[0] in groups[rest[0]]:
-                worth = rest[2]
-        return worth
-
-    def moves(self, fader):
-        """When it was touched, and the level it was moved to."""
-        never = [(-1, 0)]
-        return never + [(place, deed[2]) for place, deed in enumerate(self.log) if deed[:2] == ("move", fader)]
-
-    def bids(self, look, slot):
-        """All that a slot may stand at: (how it ranks, how its name ranks, its name, its number)."""
-        bids = [(look.get(slot, 0) if slot[1] == "bright" else -1, 0, "", look.get(slot, 0))]
-        for place, fader in enumerate(sorted({deed[1] for deed in self.log})):
-            worth = self.held(fader, slot)
-            touch, level = self.moves(fader)[-1]
-            if worth is not None and slot[1] == "bright":
-                bids.append((worth * level // 1000, -1 - place, fader, worth * level // 1000))
-            elif worth is not None and level > 0:
-                bids.append((touch, -1 - place, fader, worth))
-        return bids
-
-    def winner(self, look, slot):
-        return max(self.bids(look, slot))[2]
-
-    def down(self, lamp):
-        downs = {deed[1]: deed[2] for deed in self.log if deed[0] == "down"}
-        return max([0] + [downs[hand] for hand in downs if ("spare", hand, lamp) not in self.log])
-
-    def mixed(self, look):
-        mix = {slot: max(self.bids(look, slot))[3] for slot in SLOTS}
-        for lamp in LAMPS:
-            slot = (lamp, "bright")
-            mix[slot] = mix[slot] * (1000 - self.down(lamp)) // 1000
-        return {slot: worth for slot, worth in mix.items() if worth != 0}
 
 
 def some_deed(chance, board):

@@ -2,7 +2,8 @@ import random
 import unittest
 
 from helper import (DICTS, LISTS, MOST, NO_SLOTS, NO_WORTHS, NUMBERS, ODD, TEXTS, TUPLES, WRONG_NUMBERS, arguments_of,
-                    cue, no_lists, on, plain, plainly_carried, plainly_shown, refused, slots_of, some_cue, some_list)
+                    cue, no_lists, on, plain, plainly_kept, plainly_shown, plainly_told, refused, slots_of, some_cue,
+                    some_list)
 from lampcues.changes import put_in, stopped, taken_out, told_alone, told_on, untold
 from lampcues.cues import Cue, Part, alike, cue_list
 from lampcues.errors import NoCue, NoList, NoPart, NoSlot, NoWorth
@@ -466,24 +467,6 @@ class Arguments(unittest.TestCase):
         self.assertTrue(alike(stopped(stops=True, number=5, cues=base()), base()))
         self.assertEqual([one.number for one in put_in(cue=cue(2), cues=base())], [1, 2, 3, 4, 5, 7])
         self.assertEqual([one.number for one in taken_out(keep=True, number=7, cues=base())], [1, 3, 4, 5])
-
-
-def plainly_told(rows, number, slot, worth, place, way):
-    """[25] done to what plain tells of a list; the way is 0 for on, 1 for alone."""
-    parts = [row[1] for row in rows if row[0] == number][0]
-    telling = [one for one, part in enumerate(parts) if slot in part[0] or slot in part[1]]
-    parts[(telling + [place])[0]][way][slot] = worth
-
-
-def plainly_kept(cues, number):
-    left = [one for one in cues if one.number != number]
-    rows = plain(left)
-    behind = [one.number for one in left if one.number > number][:1]
-    for slot in slots_of(cues) if behind else []:
-        worth = plainly_carried(cues, behind[0], slot)
-        if plainly_carried(left, behind[0], slot) != worth:
-            plainly_told(rows, behind[0], slot, worth, 0, 0)
-    return rows
 
 
 class AgainstThePlainTelling(unittest.TestCase):
