@@ -414,19 +414,24 @@ class Woven(unittest.TestCase):
                                            "cy 25 down 100", "bob 30 move anna 300"])
 
     def test_drawn_ones_in_all_ways(self):
-        for seed in range(25):
+        moments = [(0, 1), (2, 1), (11, 2), (25, 1), (200, 3)]
+        ways = 0
+        for seed in range(60):
             chance = random.Random(seed)
-            hands = some_hands(chance, 3, 3)
-            text = written(short_list(seed, 3))
-            first = None
-            for way in all_weavings(hands)[::7]:
-                desk = Desk(text)
+            hands = some_hands(chance, 3, 2, (0, 0, 1, 3, 10))
+            cues = short_list(seed, 3)
+            plainly = PlainDesk(cues)
+            for row in hands[0] + hands[1] + hands[2]:
+                plainly.hear(row)
+            pictures = [plainly.at(Fraction(*moment))[0] for moment in moments]
+            for way in all_weavings(hands):
+                ways += 1
+                desk = Desk(written(cues))
                 for row in way:
                     desk.hear(row)
-                    desk.number_at(chance.randrange(60), 2)
-                told = state(desk)
-                self.assertEqual(told, told if first is None else first, way)
-                first = told
+                    desk.picture(*chance.choice(moments))
+                self.assertEqual([desk.picture(*moment) for moment in moments], pictures, way)
+        self.assertGreater(ways, 500)
 
     def test_against_the_plain_desk(self):
         seen = {"go": 0, "bright": 0, "list": 0, "pictures": 0}
